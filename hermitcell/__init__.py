@@ -1,0 +1,1 @@
+"""Hermitcell: realms that keep their memory from their host."""
