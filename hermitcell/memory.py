@@ -51,12 +51,39 @@ def is_page(value):
 
 def is_access(actor, request):
     """True if the request is one of the table of point [9] for the actor; both may be anything."""
-    if not _is_actor(actor) or not _has_name(request):
+    if not _is_actor(actor) or not has_name(request):
         return False
     forms = _REQUESTS.get((actor[0], request[0]))
     if forms is None or len(request) != len(forms) + 1:
         return False
-    return all([_fits(part, form) for part, form in zip(request[1:], forms)])
+    return all([fits(part, form) for part, form in zip(request[1:], forms)])
+
+
+def has_name(value):
+    """True if the value is a tuple that begins with a string; it may be anything."""
+    return type(value) is tuple and len(value) > 0 and type(value[0]) is str
+
+
+def fits(part, form):
+    """True if a part of a request or a call is what the form tells; the part may be anything."""
+    if form == "granule":
+        return is_granule(part)
+    if form == "owner":
+        return part is None or is_granule(part)
+    if form == "index":
+        return _is_below(part, WORDS)
+    if form == "page":
+        return is_page(part)
+    if form == "processor":
+        return is_processor(part)
+    if form == "state":
+        return type(part) is str and part in STATES
+    return is_word(part)
+
+
+def is_row(word):
+    """True if a word is what a row can be."""
+    return type(word) is tuple and len(word) == 2 and word[0] in ("data", "shared") and is_granule(word[1])
 
 
 class Memory:
@@ -80,11 +107,11 @@ class Memory:
         kind, processor = actor
         name, *parts = request
         if kind == "host":
-            result = self._host(processor, name, parts)
+            result = self._act_as_host(processor, name, parts)
         elif kind == "monitor":
-            result = self._monitor(processor, name, parts)
+            result = self._act_as_monitor(processor, name, parts)
         else:
-            result = self._core(processor, name, parts)
+            result = self._act_as_core(processor, name, parts)
         self._log.append((len(self._log), actor, request, result))
         return result
 
@@ -138,7 +165,7 @@ class Memory:
         other._log = list(self._log)
         return other
 
-    def _host(self, p, name, parts):
+    def _act_as_host(self, p, name, parts):
         """Makes an access of the host."""
         if name == "read":
             return self._copy(*parts)
@@ -146,7 +173,7 @@ class Memory:
             return self._write_as_host(*parts)
         return self._drop(p)
 
-    def _monitor(self, p, name, parts):
+    def _act_as_monitor(self, p, name, parts):
         """Makes an access of the monitor."""
         if name == "read":
             return self._read(*parts)
@@ -174,7 +201,7 @@ class Memory:
             return self._ticket()
         return self._once(*parts)
 
-    def _core(self, p, name, parts):
+    def _act_as_core(self, p, name, parts):
         """Makes an access of a core."""
         if name == "walk":
             return self._walk(p, *parts)
@@ -262,7 +289,7 @@ class Memory:
             return ("again",)
         self._walks[p] = False
         word = self._words[g][i]
-        if _is_row(word):
+        if is_row(word):
             self._rows[p][page] = word
         return ("word", word)
 
@@ -310,30 +337,3 @@ def _number_below(value, many):
 def _is_actor(value):
     """True if the value has the form of an actor; what kinds there are is told by the table alone."""
     return type(value) is tuple and len(value) == 2 and type(value[0]) is str and is_processor(value[1])
-
-
-def _has_name(request):
-    """True if the value is a tuple that begins with a string."""
-    return type(request) is tuple and len(request) > 0 and type(request[0]) is str
-
-
-def _fits(part, form):
-    """True if a part of a request is what it has to be."""
-    if form == "granule":
-        return is_granule(part)
-    if form == "owner":
-        return part is None or is_granule(part)
-    if form == "index":
-        return _is_below(part, WORDS)
-    if form == "page":
-        return is_page(part)
-    if form == "processor":
-        return is_processor(part)
-    if form == "state":
-        return type(part) is str and part in STATES
-    return is_word(part)
-
-
-def _is_row(word):
-    """True if a word is what a row can be."""
-    return type(word) is tuple and len(word) == 2 and word[0] in ("data", "shared") and is_granule(word[1])

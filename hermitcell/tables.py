@@ -11,27 +11,39 @@ def place_of(page):
     return (page // WORDS, page % WORDS)
 
 
-def leaf_of(word):
-    """The granule t of a word ("table", t) of a root table, otherwise None; it may be anything."""
-    if is_form(word, "table", 2) and is_granule(word[1]):
+def granule_of(word, name):
+    """The granule g of a word (name, g), otherwise None; the word may be anything."""
+    if is_form(word, name, 2) and is_granule(word[1]):
         return word[1]
     return None
 
 
+def leaf_of(word):
+    """The granule t of a word ("table", t) of a root table, otherwise None; it may be anything."""
+    return granule_of(word, "table")
+
+
 def is_root_word(value):
     """True if the value has the form of a word of a root table; it may be anything."""
-    return value is None or leaf_of(value) is not None or _is_leaving(value)
+    return value is None or leaf_of(value) is not None or is_leaving(value)
 
 
 def is_entry(value):
     """True if the value has the form of an entry; it may be anything."""
     if type(value) is str:
         return value == "destroyed"
-    if is_form(value, "data", 2) or is_form(value, "shared", 2):
-        return is_granule(value[1])
+    if granule_of(value, "data") is not None or granule_of(value, "shared") is not None:
+        return True
     if is_form(value, "out", 2):
         return _is_from_one_on(value[1])
-    return value is None or _is_leaving(value)
+    return value is None or is_leaving(value)
+
+
+def is_leaving(value):
+    """True if the value is a tuple ("leaving", g, n); it may be anything."""
+    if not is_form(value, "leaving", 3) or not is_granule(value[1]):
+        return False
+    return value[2] is None or _is_from_one_on(value[2])
 
 
 def map_of(memory, root):
@@ -53,13 +65,6 @@ def tables_fault(memory, root):
     if not _are_leaves_right(memory, root):
         return "leaf"
     return _fault_of_pages(memory, root)
-
-
-def _is_leaving(value):
-    """True if the value is a tuple ("leaving", g, n)."""
-    if not is_form(value, "leaving", 3) or not is_granule(value[1]):
-        return False
-    return value[2] is None or _is_from_one_on(value[2])
 
 
 def _is_from_one_on(value):

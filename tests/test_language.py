@@ -18,7 +18,7 @@ METHODS = """append clear copy count endswith extend find get index insert isaln
 items join keys ljust lower lstrip partition pop remove replace reverse rfind rjust rpartition rsplit rstrip setdefault
 split splitlines startswith strip update upper values zfill bit_length""".split()
 OWN_DOUBLE = ("__init__", "__eq__", "__repr__", "__str__", "__len__", "__call__")
-NOT_USED = """mro elements open input law version_info with_traceback add_note register compile eval exec exit globals help
+NOT_USED = """mro elements open input law version_info with_traceback add_note compile eval exec exit globals help
 id locals os quit vars sys dir delattr getattr setattr hasattr""".split()
 NOT_WRITTEN = """typing enum Enum Generic Protocol ABC namedtuple dataclass overload contextmanager _wall _WallAttr""".split()
 STATEMENTS = (
@@ -26,6 +26,17 @@ STATEMENTS = (
     ast.Continue, ast.Pass, ast.Raise, ast.Assert, ast.Delete, ast.ImportFrom, ast.Expr, ast.Try,
 )
 TYPES = ("int", "str", "bool", "list", "tuple", "dict", "set")
+
+INTERFACE = {
+    "Atom": "__init__ __eq__",
+    "Knowledge": "__init__ take can_make atoms copy",
+    "Memory": "__init__ access log status words presence rows walks dropped tickets taken copy",
+    "Core": "__init__ request step give_up answer copied",
+    "Call": "__init__ step answer state copy",
+    "Paging": "__init__ step answer state copy",
+    "Verifier": "__init__ challenge is_open open_ones take",
+    "Enter": "__init__ step interrupt is_running answer steps realm core state copy",
+}
 
 
 # The trees are read once, so that a node is the same one wherever a test meets it.
@@ -115,7 +126,8 @@ class LanguageTest(unittest.TestCase):
         for path, node in nodes(ast.Compare):
             for operator, side in zip(node.ops, node.comparators):
                 if isinstance(operator, (ast.Is, ast.IsNot)):
-                    is_kind = isinstance(node.left, ast.Call) and node.left.func.id == "type"
+                    is_kind = isinstance(node.left, ast.Call) and isinstance(node.left.func, ast.Name)
+                    is_kind = is_kind and node.left.func.id == "type"
                     is_plain = isinstance(side, ast.Constant) and any(side.value is one for one in (None, True, False))
                     self.assertTrue(is_plain or is_kind and isinstance(side, ast.Name), f"{path.name}:{node.lineno}")
 
@@ -162,6 +174,52 @@ class LanguageTest(unittest.TestCase):
                 if isinstance(each, ast.Attribute) and isinstance(each.ctx, ast.Store):
                     self.assertNotIn(each.attr, methods, f"{path.name}:{each.lineno}")
 
+    def test_no_attribute_of_a_class_is_a_method_of_another(self):
+        methods = [each.name for _, node in nodes(ast.ClassDef) for each in node.body if isinstance(each, ast.FunctionDef)]
+        for path, node in nodes(ast.Attribute):
+            if isinstance(node.ctx, ast.Store):
+                self.assertNotIn(node.attr, methods, f"{path.name}:{node.lineno}")
+
+    def test_attributes_that_are_read(self):
+        known = [node.attr for _, node in nodes(ast.Attribute) if isinstance(node.ctx, ast.Store)]
+        called = [node.func for _, node in nodes(ast.Call)]
+        for path, node in nodes(ast.Attribute):
+            if isinstance(node.ctx, ast.Load) and node not in called:
+                self.assertIn(node.attr, known, f"{path.name}:{node.lineno}")
+        # Only own methods and those of builtin values are called off an object.
+        for path, node in nodes(ast.Call):
+            if isinstance(node.func, ast.Attribute):
+                self.assertNotIn(node.func.attr, known, f"{path.name}:{node.lineno}")
+
+    def test_names_that_are_no_names_of_functions(self):
+        for path, node in nodes(ast.FunctionDef, ast.ClassDef):
+            self.assertNotEqual(node.name, "register", f"{path.name}:{node.lineno}")
+
+    def test_module_level_names_stay_as_they_are(self):
+        for path, tree in TREES:
+            kept = [
+                node.targets[0].id for node in tree.body
+                if isinstance(node, ast.Assign) and isinstance(node.value, (ast.Dict, ast.List))
+            ]
+            for node in ast.walk(tree):
+                for child in ast.iter_child_nodes(node):
+                    if isinstance(child, ast.Name) and child.id in kept and isinstance(child.ctx, ast.Load):
+                        # A dict is read on the spot: an item, .get(..) or `in`.
+                        self.assertIsInstance(node, (ast.Subscript, ast.Attribute, ast.Compare), f"{path.name}:{child.lineno}")
+                        if isinstance(node, ast.Attribute):
+                            self.assertIn(node.attr, ("get", "items", "keys", "values"), f"{path.name}:{child.lineno}")
+
+    def test_no_list_is_sorted_in_its_place(self):
+        for path, node in nodes(ast.Attribute):
+            self.assertNotEqual(node.attr, "sort", f"{path.name}:{node.lineno}")
+
+    def test_interface_methods_stand_in_their_classes(self):
+        defined = {node.name: [each.name for each in node.body if isinstance(each, ast.FunctionDef)]
+                   for _, node in nodes(ast.ClassDef)}
+        for name, methods in INTERFACE.items():
+            for method in methods.split():
+                self.assertIn(method, defined[name], name)
+
     def test_words_that_are_not_used(self):
         for path in FILES:
             with open(path, "rb") as lines:
@@ -184,3 +242,10 @@ class LanguageTest(unittest.TestCase):
         for exc in raised:
             self.assertIsInstance(exc, ast.Call)
             self.assertIsInstance(exc.func, ast.Name)
+        errors = [
+            node.name for _, node in nodes(ast.ClassDef)
+            if [base.id for base in node.bases] in (["HermitError"], ["ValueError"], ["Exception"])
+        ]
+        for path, node in nodes(ast.ExceptHandler):
+            self.assertIsInstance(node.type, ast.Name, f"{path.name}:{node.lineno}")
+            self.assertIn(node.type.id, errors, f"{path.name}:{node.lineno}")
