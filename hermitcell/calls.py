@@ -2,13 +2,12 @@
 
 from hermitcell.callforms import is_call
 from hermitcell.courses import (
-    COUNTS, MEASURE, ROOT, STATE, Course, give_back, is_low, leave_realm, read_entry, read_state, take_away, take_in,
+    COUNTS, EMPTY, MEASURE, ROOT, STATE, Course, give_back, is_low, lay_out, leave_realm, read_entry, read_state,
+    take_away, take_in,
 )
 from hermitcell.errors import NotValid
 from hermitcell.memory import WORDS, has_name, is_processor
 from hermitcell.tables import granule_of, is_leaving, leaf_of
-
-_EMPTY = (None, None, None, None)
 
 
 def _delegate(course, g):
@@ -21,7 +20,7 @@ def _delegate(course, g):
 def _undelegate(course, g):
     found = course.hold(g)
     course.ask(found[0] == "free")
-    course.wipe(g)
+    course.wipe(g, "wipe")
     course.leave(g, "host", None)
     return ("ok",)
 
@@ -30,10 +29,7 @@ def _create(course, d, t):
     realm = course.hold(d)
     table = course.hold(t)
     course.ask(realm[0] == "free" and table[0] == "free")
-    course.write_all(d, ("new", t, (), (0, 0, 0)))
-    course.write_all(t, _EMPTY)
-    course.leave(t, "table", d)
-    leave_realm(course, d)
+    lay_out(course, d, t, "new", ())
     return ("ok",)
 
 
@@ -45,7 +41,7 @@ def _table_create(course, d, t, k):
     course.ask(table[0] == "free")
     root = course.read(d, ROOT)
     course.ask(course.read(root, k) is None)
-    course.write_all(t, _EMPTY)
+    course.write_all(t, EMPTY)
     course.write(root, k, ("table", t))
     take_in(course, d, t, "table")
     return ("ok",)
@@ -58,10 +54,9 @@ def _table_destroy(course, d, k):
     leaf = leaf_of(word)
     course.ask(leaf is not None or is_leaving(word))
     if leaf is not None:
-        entries = [course.read(leaf, i) for i in range(WORDS)]
-        course.ask(all([_can_go(entry, state) for entry in entries]))
-    h, _ = take_away(course, d, root, k, word)
-    course.wipe(h)
+        course.ask(all([_can_go(entry, state) for entry in course.read_all(leaf)]))
+    h, _ = take_away(course, d, root, k, word, "wait")
+    course.wipe(h, "wipe")
     course.write(root, k, None)
     give_back(course, d, h, "table")
     return ("ok",)
@@ -72,10 +67,10 @@ def _data_create(course, d, g, s, page):
     data = course.hold(g)
     state = read_state(course, d, realm)
     course.ask(state == "new")
-    course.ask(data[0] == "free")
+    course.ask(data[0] == "free" or not course.stands("free"))
     t, i = _ask_for_unused(course, d, page)
     words = _copy_source(course, g, s)
-    _add_to_measure(course, d, ("page", page, words))
+    _measure_page(course, d, s, page, words)
     course.write(t, i, ("data", g))
     take_in(course, d, g, "data")
     return ("ok",)
@@ -86,9 +81,9 @@ def _data_fresh(course, d, g, page):
     data = course.hold(g)
     state = read_state(course, d, realm)
     course.ask(state == "active")
-    course.ask(data[0] == "free")
+    course.ask(data[0] == "free" or not course.stands("free"))
     t, i = _ask_for_unused(course, d, page)
-    course.wipe(g)
+    course.wipe(g, "fresh")
     course.write(t, i, ("data", g))
     take_in(course, d, g, "data")
     return ("ok",)
@@ -99,9 +94,9 @@ def _data_destroy(course, d, page):
     course.ask(state in ("active", "dying"))
     t, i, entry = read_entry(course, d, page)
     course.ask(granule_of(entry, "data") is not None or is_leaving(entry))
-    h, _ = take_away(course, d, t, i, entry)
-    course.wipe(h)
-    course.write(t, i, "destroyed" if state == "active" else None)
+    h, _ = take_away(course, d, t, i, entry, "wait")
+    course.wipe(h, "wipe")
+    course.write(t, i, "destroyed" if state == "active" and course.stands("destroyed") else None)
     give_back(course, d, h, "data")
     return ("ok",)
 
@@ -131,10 +126,11 @@ def _cpu_create(course, d, c, program, registers):
     realm = course.hold(d)
     cpu = course.hold(c)
     state = read_state(course, d, realm)
-    course.ask(state == "new")
+    course.ask(state == "new" or state == "active" and not course.stands("early"))
     course.ask(cpu[0] == "free")
     course.write_all(c, (0, registers, None, program))
-    _add_to_measure(course, d, ("cpu", program, registers))
+    measure = course.read(d, MEASURE)
+    course.write(d, MEASURE, measure + (("cpu", program, registers),))
     take_in(course, d, c, "cpu")
     return ("ok",)
 
@@ -145,7 +141,7 @@ def _cpu_destroy(course, d, c):
     state = read_state(course, d, realm)
     course.ask(state == "dying")
     course.ask(cpu == ("cpu", d))
-    course.wipe(c)
+    course.wipe(c, "wipe")
     give_back(course, d, c, "cpu")
     return ("ok",)
 
@@ -168,11 +164,12 @@ def _kill(course, d):
 def _destroy(course, d):
     state = read_state(course, d, course.hold(d))
     course.ask(state == "dying")
-    course.ask(course.read(d, COUNTS) == (0, 0, 0))
+    counts = course.read(d, COUNTS)
+    course.ask(counts == (0, 0, 0) or not course.stands("counts"))
     r = course.read(d, ROOT)
     course.hold(r)
-    course.wipe(r)
-    course.wipe(d)
+    course.wipe(r, "wipe")
+    course.wipe(d, "wipe")
     course.leave(r, "free", None)
     course.leave(d, "free", None)
     return ("ok",)
@@ -211,10 +208,13 @@ def _copy_source(course, g, s):
     return tuple(words)
 
 
-def _add_to_measure(course, d, part):
-    """Adds a part to the measure of a realm."""
-    measure = course.read(d, MEASURE)
-    course.write(d, MEASURE, measure + (part,))
+def _measure_page(course, d, s, page, words):
+    """Adds a page to the measure of a realm: the words that were copied, or those that the source has now."""
+    if course.stands("measured"):
+        measure = course.read(d, MEASURE)
+    else:
+        measure, words = course.read_beside(d, MEASURE, s)
+    course.write(d, MEASURE, measure + (("page", page, words),))
 
 
 _WORKS = {
@@ -237,15 +237,16 @@ _WORKS = {
 
 
 class Call:
-    """A call of point [21], made by a processor on a memory."""
+    """A call of point [21], made by a processor on a memory; it can be made without a wall of point [62]."""
 
-    def __init__(self, memory, processor, call):
+    def __init__(self, memory, processor, call, without=None):
         if not is_call(call) or not is_processor(processor):
             raise NotValid()
         work = _WORKS[call[0]]
         self._processor = processor
         self._call = call
-        self._course = Course(memory, processor, work, call[1:])
+        self._without = without
+        self._course = Course(memory, processor, work, call[1:], without)
 
     def step(self):
         """Makes the next access; returns the answer if it was the last one, otherwise None."""
@@ -261,6 +262,6 @@ class Call:
 
     def copy(self, memory):
         """A call that stands where this one stands, on another memory."""
-        other = Call(memory, self._processor, self._call)
+        other = Call(memory, self._processor, self._call, self._without)
         other._course = self._course.copy(memory)
         return other

@@ -14,6 +14,8 @@ STATE = 0
 ROOT = 1
 MEASURE = 2
 COUNTS = 3
+# The words of an empty table.
+EMPTY = (None, None, None, None)
 
 # Where the granules of a realm are counted, by their states.
 _COUNTED = {"cpu": 0, "table": 1, "data": 2}
@@ -24,13 +26,17 @@ class Broken(Exception):
 
 
 class Course:
-    """A call on its way: a work is a function of a course and of parts, which makes accesses by it, and answers."""
+    """A call on its way: a work is a function of a course and of parts, which makes accesses by it, and answers.
 
-    def __init__(self, memory, processor, work, parts):
+    It can be made without one of the walls of point [62]: the works ask whether the wall stands.
+    """
+
+    def __init__(self, memory, processor, work, parts, without=None):
         self._memory = memory
         self._processor = processor
         self._work = work
         self._parts = parts
+        self._without = without
         self._results = []
         self._shown = []
         # Where the work has come to: the results that it was given, and what it holds.
@@ -39,6 +45,7 @@ class Course:
         # What it ended with: the next access, or the answer.
         self._request = None
         self._is_hidden = False
+        self._beside = None
         self._answer = None
         self._go_through()
 
@@ -47,8 +54,10 @@ class Course:
         if self._answer is not None:
             raise NotValid()
         result = self._memory.access(("monitor", self._processor), self._request)
+        if self._beside is not None:
+            result = (result, self._memory.words(self._beside))
         self._results.append(result)
-        self._shown.append(None if self._is_hidden else result)
+        self._shown.append(None if self._is_hidden else _plain(result))
         self._go_through()
         return self._answer
 
@@ -62,19 +71,31 @@ class Course:
 
     def copy(self, memory):
         """A course that stands where this one stands, on another memory."""
-        other = Course(memory, self._processor, self._work, self._parts)
+        other = Course(memory, self._processor, self._work, self._parts, self._without)
         other._results = list(self._results)
         other._shown = list(self._shown)
         other._go_through()
         return other
 
+    def stands(self, wall):
+        """True if this wall is not left out."""
+        return self._without != wall
+
     def read(self, g, i):
         """The word i of a granule."""
         return self._make(("read", g, i))
 
+    def read_all(self, g):
+        """The list of the words of a granule."""
+        return [self.read(g, i) for i in range(WORDS)]
+
     def read_hidden(self, g):
         """The tuple of the words of a granule, which are not shown."""
-        return tuple([self._make(("read", g, i), True) for i in range(WORDS)])
+        return tuple([self._make(("read", g, i), is_hidden=True) for i in range(WORDS)])
+
+    def read_beside(self, g, i, s):
+        """The word i of a granule, and the tuple of the words that the granule s has at this access."""
+        return self._make(("read", g, i), beside=s)
 
     def write(self, g, i, word):
         """Writes the word i of a granule."""
@@ -85,17 +106,28 @@ class Course:
         for i, word in enumerate(words):
             self.write(g, i, word)
 
-    def wipe(self, g):
-        """Writes 0 into each word of a granule."""
-        self.write_all(g, (0,) * WORDS)
+    def wipe(self, g, wall=None):
+        """Writes 0 into each word of a granule; where this wall is left out, it reads them instead."""
+        if wall is None or self.stands(wall):
+            self.write_all(g, (0,) * WORDS)
+        else:
+            self.read_all(g)
 
     def copy_word(self, g, i):
         """What the monitor gets when it copies a word of a granule of the host."""
         return self._make(("copy", g, i))
 
+    def look(self, g):
+        """The status of a granule."""
+        return self._make(("look", g))
+
     def ticket(self):
         """A new number."""
         return self._make(("ticket",))
+
+    def once(self, word):
+        """True if the word was never told so before."""
+        return self._make(("once", word))
 
     def seen(self, processor):
         """The presence and the last drop of a processor."""
@@ -137,14 +169,20 @@ class Course:
         except Broken:
             return
 
-    def _make(self, request, is_hidden=False):
+    def _make(self, request, is_hidden=False, beside=None):
         """The result of an access, if it was made already; otherwise it is the next one."""
         if self._at == len(self._results):
             self._request = request
             self._is_hidden = is_hidden
+            self._beside = beside
             raise Broken()
         self._at += 1
         return self._results[self._at - 1]
+
+
+def _plain(result):
+    """The result of an access as a plain value, in which there are no truths."""
+    return int(result) if type(result) is bool else result
 
 
 def read_state(course, d, found):
@@ -166,6 +204,14 @@ def is_low(page):
     return page < FIRST_SHARED
 
 
+def lay_out(course, d, t, state, measure):
+    """Makes a realm with an empty root table of two granules that are held, and leaves them."""
+    course.write_all(d, (state, t, measure, (0, 0, 0)))
+    course.write_all(t, EMPTY)
+    course.leave(t, "table", d)
+    leave_realm(course, d)
+
+
 def leave_realm(course, d):
     """Leaves a realm that goes on."""
     course.leave(d, "desc", None)
@@ -185,10 +231,10 @@ def give_back(course, d, g, state):
     leave_realm(course, d)
 
 
-def take_away(course, d, t, i, word):
+def take_away(course, d, t, i, word, wall=None):
     """Waits until no processor can use the granule that the word i of t names, and holds it.
 
-    Returns the tuple (granule, n), n being the ticket of the waiting.
+    Returns the tuple (granule, n), n being the ticket of the waiting. Where this wall is left out, it does not wait.
     """
     h = word[1]
     n = word[2] if word[0] == "leaving" else None
@@ -199,7 +245,7 @@ def take_away(course, d, t, i, word):
         course.write(t, i, ("leaving", h, n))
     for processor in range(PROCESSORS):
         presence, drop = course.seen(processor)
-        if presence == d and drop < n:
+        if presence == d and drop < n and (wall is None or course.stands(wall)):
             course.give_up(("busy",))
     course.hold(h)
     return (h, n)

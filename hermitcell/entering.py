@@ -20,15 +20,19 @@ def is_enter(value):
 
 
 class Enter:
-    """A call ("enter", c, answer), made by a processor on a memory, whose monitor has this name."""
+    """A call ("enter", c, answer), made by a processor on a memory, whose monitor has this name.
 
-    def __init__(self, memory, processor, call, monitor):
+    It can be made without the wall "alive" of point [62].
+    """
+
+    def __init__(self, memory, processor, call, monitor, without=None):
         if not is_enter(call) or not is_processor(processor):
             raise NotValid()
         self._memory = memory
         self._processor = processor
         self._call = call
         self._monitor = monitor
+        self._without = without
         self._stage = "swap"
         self._descriptor = None
         self._root = None
@@ -77,6 +81,10 @@ class Enter:
         """The virtual processor that runs or ran, None before."""
         return self._core
 
+    def left(self):
+        """What the run ended with, None before."""
+        return self._left
+
     def state(self):
         """The tuple of all that the call has read and will do, without the virtual processor."""
         _, c, word = self._call
@@ -87,7 +95,7 @@ class Enter:
 
     def copy(self, memory):
         """The same call on another memory."""
-        other = Enter(memory, self._processor, self._call, self._monitor)
+        other = Enter(memory, self._processor, self._call, self._monitor, self._without)
         other._stage = self._stage
         other._descriptor = self._descriptor
         other._root = self._root
@@ -130,7 +138,7 @@ class Enter:
         if self._stage == "swap" and not result:
             self._answer = ("no",)
             return
-        if self._stage == "state" and result != "active":
+        if self._stage == "state" and result != "active" and self._without != "alive":
             self._stage = "absent"
             self._left = ("no",)
             return

@@ -87,9 +87,13 @@ def is_row(word):
 
 
 class Memory:
-    """The granules, the processors, the number of tickets, the words told once, and the log."""
+    """The granules, the processors, the number of tickets, the words told once, and the log.
 
-    def __init__(self):
+    It can be made without one of the walls of point [62].
+    """
+
+    def __init__(self, without=None):
+        self._without = without
         self._statuses = [("host", None, None)] * GRANULES
         self._words = [[0] * WORDS for _ in range(GRANULES)]
         self._presences = [None] * PROCESSORS
@@ -118,6 +122,10 @@ class Memory:
     def log(self):
         """The list of the tuples (number, actor, request, result) of all accesses."""
         return list(self._log)
+
+    def last(self):
+        """The last tuple of the log, None if there is none."""
+        return self._log[-1] if self._log else None
 
     def status(self, g):
         """The status (state, owner, holder) of a granule."""
@@ -153,7 +161,7 @@ class Memory:
 
     def copy(self):
         """A memory with the same contents and the same log, that shares nothing."""
-        other = Memory()
+        other = Memory(self._without)
         other._statuses = list(self._statuses)
         other._words = [list(words) for words in self._words]
         other._presences = list(self._presences)
@@ -165,10 +173,18 @@ class Memory:
         other._log = list(self._log)
         return other
 
+    def change(self, g, i, word):
+        """Puts a word into a granule, without an access."""
+        self._words[g][i] = word
+
+    def _stands(self, wall):
+        """True if this wall is not left out."""
+        return self._without != wall
+
     def _act_as_host(self, p, name, parts):
         """Makes an access of the host."""
         if name == "read":
-            return self._copy(*parts)
+            return self._read_as_host(*parts)
         if name == "write":
             return self._write_as_host(*parts)
         return self._drop(p)
@@ -180,7 +196,7 @@ class Memory:
         if name == "write":
             return self._write(*parts)
         if name == "copy":
-            return self._copy(*parts)
+            return self._copy_for_monitor(*parts)
         if name == "hold":
             return self._hold(p, *parts)
         if name == "leave":
@@ -211,10 +227,16 @@ class Memory:
             return self._touch(p, *parts)
         return self._put(p, *parts)
 
-    def _copy(self, g, i):
-        """The word of a granule of the host; both the host and the monitor read so."""
+    def _read_as_host(self, g, i):
+        """The word of a granule of the host."""
         if self._statuses[g][0] != "host":
             return ("refused",)
+        return ("word", self._words[g][i])
+
+    def _copy_for_monitor(self, g, i):
+        """What the monitor gets of a source, which has to be the host's."""
+        if self._stands("source"):
+            return self._read_as_host(g, i)
         return ("word", self._words[g][i])
 
     def _write_as_host(self, g, i, word):
@@ -265,7 +287,9 @@ class Memory:
 
     def _present(self, p, d):
         self._presences[p] = d
-        self._forget_rows(p)
+        self._walks[p] = False
+        if self._stands("rows"):
+            self._forget_rows(p)
 
     def _seen(self, q):
         return (self._presences[q], self._drops[q])
@@ -276,7 +300,7 @@ class Memory:
 
     def _once(self, word):
         if word in self._taken:
-            return False
+            return not self._stands("once")
         self._taken.append(word)
         return True
 
@@ -285,7 +309,7 @@ class Memory:
         return ("word", self._words[g][i])
 
     def _leaf(self, p, page, g, i):
-        if not self._walks[p]:
+        if not self._walks[p] and self._stands("again"):
             return ("again",)
         self._walks[p] = False
         word = self._words[g][i]

@@ -49,7 +49,7 @@ def _page_in(course, monitor, d, g, page, atom):
     course.ask(is_low(page))
     t, i, entry = read_entry(course, d, page)
     course.ask(is_form(entry, "out", 2))
-    words = _words_of(atom, (monitor, entry[1], page))
+    words = _words_of(atom, monitor, entry[1] if course.stands("version") else None, page)
     course.ask(words is not None)
     course.write_all(g, words)
     course.write(t, i, ("data", g))
@@ -57,27 +57,37 @@ def _page_in(course, monitor, d, g, page, atom):
     return ("ok",)
 
 
-def _words_of(atom, place):
-    """The words that the atom of a page hides, if the place (monitor, n, page) is its own, otherwise None."""
-    if type(atom) is Atom and atom.kind == "page" and atom.term[:3] == place:
-        return atom.term[3]
-    return None
+def _words_of(atom, monitor, n, page):
+    """The words that an atom hides, if it is that of this page that went out with the number n, otherwise None.
+
+    Every number will do if n is None.
+    """
+    if type(atom) is not Atom or atom.kind != "page":
+        return None
+    source, number, place, words = atom.term
+    if source != monitor or place != page or n is not None and number != n:
+        return None
+    return words
 
 
 _WORKS = {"page_out": _page_out, "page_in": _page_in}
 
 
 class Paging:
-    """A call of point [26], made by a processor on a memory, whose monitor has this name."""
+    """A call of point [26], made by a processor on a memory, whose monitor has this name.
 
-    def __init__(self, memory, processor, call, monitor):
+    It can be made without the wall "version" of point [62].
+    """
+
+    def __init__(self, memory, processor, call, monitor, without=None):
         if not is_paging(call) or not is_processor(processor) or not is_monitor(monitor):
             raise NotValid()
         work = _WORKS[call[0]]
         self._processor = processor
         self._call = call
         self._monitor = monitor
-        self._course = Course(memory, processor, work, (monitor,) + call[1:])
+        self._without = without
+        self._course = Course(memory, processor, work, (monitor,) + call[1:], without)
 
     def step(self):
         """Makes the next access; returns the answer if it was the last one, otherwise None."""
@@ -93,6 +103,6 @@ class Paging:
 
     def copy(self, memory):
         """A call that stands where this one stands, on another memory."""
-        other = Paging(memory, self._processor, self._call, self._monitor)
+        other = Paging(memory, self._processor, self._call, self._monitor, self._without)
         other._course = self._course.copy(memory)
         return other

@@ -70,21 +70,25 @@ def rank_of(word):
 
 def strip(word):
     """The word without the words of all seals and pages in it."""
-    # A stack in the place of recursion: tokens in tokens can be deeper than calls may be.
-    todo = [(word, False)]
+    return with_atoms(word, lambda atom: atom.stripped())
+
+
+def with_atoms(value, change):
+    """The value with change(atom) in the place of each atom in its tuples; all else stays; it may be anything."""
+    # A stack in the place of recursion: what is no word can be nested without end.
+    todo = [(value, False)]
     rows = [[]]
     while todo:
         part, is_at_its_end = todo.pop()
-        inner = _parts_to_strip(part)
         if is_at_its_end:
             row = tuple(rows.pop())
-            rows[-1].append(row if type(part) is tuple else Atom(part.kind, row))
-        elif inner is None:
-            rows[-1].append(_without_words(part))
-        else:
+            rows[-1].append(row)
+        elif type(part) is tuple:
             rows.append([])
             todo.append((part, True))
-            todo.extend([(each, False) for each in inner[::-1]])
+            todo.extend([(each, False) for each in part[::-1]])
+        else:
+            rows[-1].append(change(part) if type(part) is Atom else part)
     return rows[0][0]
 
 
@@ -100,11 +104,23 @@ class Atom:
         self.kind = kind
         self.term = term
         self.rank = rank
+        self._stripped = None
 
     def __eq__(self, other):
         if not isinstance(other, Atom):
             return False
         return self.kind == other.kind and _are_equal(self.term, other.term)
+
+    def is_same(self, other):
+        """True if the other one is this very object."""
+        return self is other
+
+    def stripped(self):
+        """The atom without the words of all seals and pages in it."""
+        # It is worked out once: tokens can hold the same token in many places, and this again.
+        if self._stripped is None:
+            self._stripped = _stripped(self)
+        return self._stripped
 
 
 class Knowledge:
@@ -178,6 +194,8 @@ def _are_equal(ones, others):
             left.extend(one)
             right.extend(other)
         elif type(one) is Atom and type(other) is Atom:
+            if one.is_same(other):
+                continue
             if one.kind != other.kind:
                 return False
             left.extend(one.term)
@@ -225,17 +243,10 @@ def _most_rank(kind):
     return MOST_RANK_HOST if kind == "token" else MOST_RANK
 
 
-def _parts_to_strip(part):
-    """The tuple of the parts that are stripped one by one, None if there are none."""
-    if type(part) is tuple:
-        return part
-    if type(part) is Atom and part.kind in ("token", "ticket"):
-        return part.term
-    return None
-
-
-def _without_words(part):
-    """A word without parts that are stripped: a seal or a page without its words, all else as it is."""
-    if type(part) is Atom and part.kind in ("seal", "page"):
-        return Atom(part.kind, part.term[:3] + (None,))
-    return part
+def _stripped(atom):
+    """An atom without the words of all seals and pages in it; the very atom if there are none."""
+    if atom.kind in ("seal", "page"):
+        return atom if atom.term[3] is None else Atom(atom.kind, atom.term[:3] + (None,))
+    if all([each.is_same(each.stripped()) for each in _places_of_atoms(atom.term)]):
+        return atom
+    return Atom(atom.kind, strip(atom.term))

@@ -5,7 +5,7 @@ import unittest
 from hermitcell.calls import Call
 from hermitcell.errors import NotValid
 from hermitcell.memory import GRANULES, PROCESSORS, Memory
-from hermitcell.words import Atom
+from hermitcell.words import Atom, strip
 
 MONITOR = ("monitor", 0)
 HOST = ("host", 0)
@@ -298,6 +298,21 @@ class RealmCase(CallCase):
         before = contents(memory)[1:]
         self.refuses(memory, call, done, many, held)
         self.assertEqual(contents(memory)[1:], before)
+
+    def tells_no_words(self, call, g, words, state):
+        """The states of the call tell nothing of the words of the granule, which its answer hides."""
+        memory, other = self.start(state), self.start(state)
+        write(other, g, *words)
+        one, two = self.make(memory, 0, call), self.make(other, 0, call)
+        states = []
+        while one.answer() is None:
+            self.assertEqual(one.state(), two.state())
+            self.assertNotIn(one.state(), states)
+            states.append(one.state())
+            one.step(), two.step()
+        self.assertEqual(one.state(), two.state())
+        self.assertNotEqual(one.answer(), two.answer())
+        self.assertEqual(strip(one.answer()), strip(two.answer()))
 
     def asks_for_realm(self, call, done, held, right, state):
         """Asks that d has to be a realm in one of the right states."""

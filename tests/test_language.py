@@ -36,6 +36,13 @@ INTERFACE = {
     "Paging": "__init__ step answer state copy",
     "Verifier": "__init__ challenge is_open open_ones take",
     "Enter": "__init__ step interrupt is_running answer steps realm core state copy",
+    "Move": "__init__ step answer state copy",
+    "World": "__init__ act view memory call knows known copy copy_with",
+    "Net": "__init__ act world view copy",
+    "Plain": "__init__ many enter need make pages core",
+    "Watch": "__init__ act world many realm descriptor cores tells makes measure start copy",
+    "Twins": "__init__ act watches parted fault",
+    "WeakWorld": "__init__ copy_with",
 }
 
 
@@ -129,6 +136,7 @@ class LanguageTest(unittest.TestCase):
                     is_kind = isinstance(node.left, ast.Call) and isinstance(node.left.func, ast.Name)
                     is_kind = is_kind and node.left.func.id == "type"
                     is_plain = isinstance(side, ast.Constant) and any(side.value is one for one in (None, True, False))
+                    is_plain = is_plain or isinstance(node.left, ast.Name) and node.left.id == "self"
                     self.assertTrue(is_plain or is_kind and isinstance(side, ast.Name), f"{path.name}:{node.lineno}")
 
     def test_kinds_are_asked_by_names(self):

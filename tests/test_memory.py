@@ -436,6 +436,21 @@ class LogTest(MemoryCase):
             self.assertEqual(len(self.memory.log()), number + 1)
         self.assertEqual(self.memory.log(), [(n, *access) for n, access in enumerate(accesses)])
 
+    def test_the_last_access(self):
+        self.assertIsNone(self.memory.last())
+        self.memory.access(HOST, ("write", 3, 0, 7))
+        self.assertEqual(self.memory.last(), (0, HOST, ("write", 3, 0, 7), ("done",)))
+        self.memory.access(MONITOR, ("hold", 3))
+        self.assertEqual(self.memory.last(), self.memory.log()[-1])
+
+    def test_a_change_is_no_access(self):
+        memory = worn()
+        before, words = contents(memory), memory.words(5)
+        memory.change(5, 2, "changed")
+        self.assertEqual(memory.words(5), words[:2] + ("changed",) + words[3:])
+        memory.change(5, 2, words[2])
+        self.assertEqual(contents(memory), before)
+
     def test_looking_is_no_access(self):
         memory = worn()
         before = memory.log()

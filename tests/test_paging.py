@@ -6,7 +6,7 @@ from hermitcell.errors import NotValid
 from hermitcell.memory import Memory
 from hermitcell.paging import PAGINGS, Paging, is_paging, page_atom
 from hermitcell.tables import map_of, tables_fault
-from hermitcell.words import Atom, strip
+from hermitcell.words import Atom
 from tests.helpers import (
     D, DATA, FREE, HIGH_LEAF, HIGH_PAGE, LEAF, MEASURE, MONITOR, NO_WORDS, OTHER_FREE, PAGE, ROOT, SHARED, SOURCE, FormCase,
     RealmCase, TrickyText, WaitingCase, challenge, contents, do, finish, nested, put, ranked, realm, seal, ticket, token,
@@ -124,18 +124,7 @@ class PageOutTest(WaitingCase):
         self.assertEqual(finish(Paging(memory, 0, self.CALL, "there")), ("ok", page_atom("there", 1, PAGE, SOURCE)))
 
     def test_states_tell_no_words_of_the_page(self):
-        memory, other = realm(), realm()
-        write(other, DATA, 5, "y", (), None)
-        one, two = self.make(memory, 0, self.CALL), self.make(other, 0, self.CALL)
-        states = []
-        while one.answer() is None:
-            self.assertEqual(one.state(), two.state())
-            self.assertNotIn(one.state(), states)
-            states.append(one.state())
-            one.step(), two.step()
-        self.assertEqual(one.state(), two.state())
-        self.assertNotEqual(one.answer(), two.answer())
-        self.assertEqual(strip(one.answer()), strip(two.answer()))
+        self.tells_no_words(self.CALL, DATA, (5, "y", (), None), "active")
 
     def test_states_tell_the_entry_and_who_is_present(self):
         memory, other = realm(), realm()

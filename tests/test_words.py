@@ -301,6 +301,19 @@ class StripTest(unittest.TestCase):
             (deep,) = deep
         self.assertEqual(deep, seal(words=None))
 
+    def test_tokens_that_hold_the_same_token_many_times(self):
+        # To go through each of its places would take for ever.
+        for inner in (challenge(0), seal()):
+            atom = inner
+            while atom.rank < 36:
+                atom = token(atom, measure=(("x", atom),) * 30)
+            bare = strip(atom)
+            self.assertEqual(bare.rank, 36)
+            self.assertEqual(strip(bare), bare)
+            self.assertIs(bare == atom, inner == challenge(0))
+            self.assertEqual(strip((atom, (atom,))), (bare, (bare,)))
+            self.assertEqual(ticket(measure=(atom, (atom,))), ticket(measure=(atom, (atom,))))
+
 
 class KnowledgeTest(unittest.TestCase):
     def test_example(self):
