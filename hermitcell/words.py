@@ -119,7 +119,7 @@ class Atom:
         """The atom without the words of all seals and pages in it."""
         # It is worked out once: tokens can hold the same token in many places, and this again.
         if self._stripped is None:
-            self._stripped = _stripped(self)
+            self._stripped = _strip_atom(self)
         return self._stripped
 
 
@@ -243,7 +243,7 @@ def _most_rank(kind):
     return MOST_RANK_HOST if kind == "token" else MOST_RANK
 
 
-def _stripped(atom):
+def _strip_atom(atom):
     """An atom without the words of all seals and pages in it; the very atom if there are none."""
     if atom.kind in ("seal", "page"):
         return atom if atom.term[3] is None else Atom(atom.kind, atom.term[:3] + (None,))

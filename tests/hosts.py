@@ -9,7 +9,7 @@ from hermitcell.paging import Paging, is_paging
 from hermitcell.tables import leaf_of
 from hermitcell.words import Atom
 
-LOW_PROGRAMS = (
+PROGRAMS = (
     # Counts in page 0, tells the sum, and takes the answer into page 0 or a shared page.
     (
         ("load", 1, 0, 0), ("add", 1, 1, 2), ("store", 0, 0, 1), ("tell", 1, 2), ("same", 3, 2, 1), ("zero", 3, 0), ("jump", 0),
@@ -69,7 +69,7 @@ def building(draw, world, d, free):
     memory = world.memory()
     host = pick(draw, memory, ("host",))
     page = drawn_page(draw)
-    cpu = ("cpu_create", d, free, draw.choice(LOW_PROGRAMS), draw.choice(REGISTERS))
+    cpu = ("cpu_create", d, free, draw.choice(PROGRAMS), draw.choice(REGISTERS))
     if memory.status(d) == ("desc", None, None) and draw.random() < 0.8:
         _, root, _, (cpus, tables, pages) = memory.words(d)
         if tables < 2:
@@ -266,7 +266,7 @@ def realm_acts(granules, program, registers, p=0, host=None):
     return [("delegate", g) for g in granules[:8]] + [
         ("create", d, r), ("table_create", d, t, 0), ("table_create", d, high, 2), ("data_create", d, one, shared, 0),
         ("data_create", d, two, shared, 1), ("share", d, 8, shared), ("cpu_create", d, c, program, registers),
-        ("cpu_create", d, e, LOW_PROGRAMS[1], REGISTERS[0]), ("activate", d),
+        ("cpu_create", d, e, PROGRAMS[1], REGISTERS[0]), ("activate", d),
     ]
 
 

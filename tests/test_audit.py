@@ -11,7 +11,7 @@ from tests.helpers import (
     CPU, D, DATA, FREE, HIGH_LEAF, HIGH_PAGE, LEAF, MEASURE, MONITOR, OTHER_FREE, PAGE, ROOT, SHARED, challenge, contents, do,
     leave, nested, put, realm, status, ticket, write,
 )
-from tests.hosts import LOW_PROGRAMS, REGISTERS, Drawn, finish, realm_acts
+from tests.hosts import PROGRAMS, REGISTERS, Drawn, finish, realm_acts
 
 
 def hold(g, p=1):
@@ -349,7 +349,7 @@ class RunTest(unittest.TestCase):
         for seed in range(24):
             draw = random.Random(seed)
             world = World("here")
-            for call in realm_acts(range(9), draw.choice(LOW_PROGRAMS), draw.choice(REGISTERS)):
+            for call in realm_acts(range(9), draw.choice(PROGRAMS), draw.choice(REGISTERS)):
                 finish(world.act, call)
             host = Drawn(draw, moves=draw.choice((0, 0.3)), ends=draw.choice((0.02, 0.2)), odd=0.05)
             for _ in range(1200):

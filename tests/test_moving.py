@@ -12,7 +12,7 @@ from hermitcell.views import Watch
 from hermitcell.world import Net
 from tests.helpers import CPU, D, DATA, ROOT, leave, put, realm, seal
 from tests.helpers import finish as finish_call
-from tests.hosts import LOW_PROGRAMS, REGISTERS, Drawn, finish, realm_acts
+from tests.hosts import PROGRAMS, REGISTERS, Drawn, finish, realm_acts
 
 NAMES = ("here", "there", "far")
 REALM = 0
@@ -242,6 +242,46 @@ class LineTest(NetCase):
             alive = [d for d in realms(memory) if is_alive(memory.words(d)[0])]
             self.assertEqual(len(alive), 1 if many < 3 or many == 13 else 0)
 
+    def moves_on(self, left, many):
+        """Tries a whole move; the call with this number is left unfinished, and made again by another processor.
+
+        Returns whether it came to its end all the same.
+        """
+        got, is_over = [], False
+        for number, (name, make) in enumerate((
+            ("here", lambda: ("freeze", REALM)), ("here", lambda: ("seal", REALM, 0)), ("here", lambda: ("seal", REALM, 1)),
+            ("here", lambda: ("seal_cpu", REALM, 6)), ("here", lambda: ("seal_cpu", REALM, 7)),
+            ("here", lambda: ("give", REALM, "there")), ("here", lambda: ("ticket", REALM)),
+            ("there", lambda: ("come", REALM, ROOT_AT, got[6])), ("there", lambda: ("table_create", REALM, LOW_AT, 0)),
+            ("there", lambda: ("place", REALM, 4, 0, got[1])), ("there", lambda: ("place", REALM, 5, 1, got[2])),
+            ("there", lambda: ("place_cpu", REALM, 6, got[3])), ("there", lambda: ("place_cpu", REALM, 7, got[4])),
+            ("there", lambda: ("begin", REALM)),
+        )):
+            call = make()
+            if number == left:
+                self.net.act(name, ("call", 0, call))
+                for _ in range(many):
+                    is_over = self.net.act(name, ("step", 0)) is not None
+                    self.asks()
+            answer = self.make(name, call, 1)
+            got.append(answer[1] if len(answer) > 1 else None)
+        return is_over
+
+    def test_each_call_is_left_unfinished(self):
+        """Wherever a processor stops for ever, what the others do then doubles nothing."""
+        ended = []
+        for left in range(14):
+            many, is_over = 0, False
+            while not is_over:
+                self.start()
+                is_over = self.moves_on(left, many)
+                ended.append(self.living())
+                # What comes late does not bring it back where it is gone.
+                self.make("here", ("thaw", REALM), 2), self.make("here", ("freeze", REALM), 2)
+                many += 1
+        for living in ([], ["here"], ["there"]):
+            self.assertIn(living, ended)
+
     def test_two_that_come_at_once(self):
         for seed in range(60):
             draw = random.Random(seed)
@@ -336,7 +376,7 @@ class DrawnTest(unittest.TestCase):
             draw = random.Random(seed)
             net = Net(NAMES)
             watches = {name: Watch(net.world(name)) for name in NAMES}
-            for call in realm_acts(range(9), draw.choice(LOW_PROGRAMS), draw.choice(REGISTERS)):
+            for call in realm_acts(range(9), draw.choice(PROGRAMS), draw.choice(REGISTERS)):
                 finish(watches["here"].act, call)
             host = Drawn(draw, NAMES, moves=0.5, ends=0.03)
             lines, tickets, frozen, calls = {("here", 0): 0}, {}, {}, {}

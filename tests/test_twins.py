@@ -13,7 +13,7 @@ from hermitcell.walls import WeakWorld
 from hermitcell.words import Knowledge, strip
 from hermitcell.world import World
 from tests.helpers import NO_WORDS, challenge, contents, endless_list, nested, ranked, seal, ticket, token
-from tests.hosts import LOW_PROGRAMS, REGISTERS, Drawn, finish, realm_acts
+from tests.hosts import PROGRAMS, REGISTERS, Drawn, finish, realm_acts
 
 D, ROOT, LOW, HIGH, DATA, CPU, FREE, MORE = range(1, 9)
 OTHER, OTHER_ROOT, OTHER_CPU = 9, 10, 11
@@ -742,7 +742,7 @@ class DrawnTest(unittest.TestCase):
             draw = random.Random(seed)
             watch = Watch(World("here"))
             host = Drawn(draw, moves=draw.choice((0, 0, 0.2)), ends=draw.choice((0, 0.1)), odd=0)
-            for call in realm_acts(range(9), draw.choice(LOW_PROGRAMS), draw.choice(REGISTERS)):
+            for call in realm_acts(range(9), draw.choice(PROGRAMS), draw.choice(REGISTERS)):
                 finish(watch.act, call)
             for g in range(9, 14):
                 finish(watch.act, ("delegate", g))

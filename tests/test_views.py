@@ -11,7 +11,7 @@ from hermitcell.walls import WeakWorld
 from hermitcell.words import Atom, Knowledge
 from hermitcell.world import Net, World
 from tests.helpers import NO_WORDS, challenge, contents, nested
-from tests.hosts import LOW_PROGRAMS, REGISTERS, Drawn, finish, realm_acts
+from tests.hosts import PROGRAMS, REGISTERS, Drawn, finish, realm_acts
 
 D, ROOT, LOW, HIGH, DATA, CPU, OTHER, FREE = range(1, 9)
 SHARED, SOURCE = 20, 21
@@ -632,7 +632,7 @@ class IntegrityTest(WatchCase):
         for seed in range(16):
             draw = random.Random(seed)
             self.begin(World("here"))
-            for call in realm_acts(range(9), draw.choice(LOW_PROGRAMS), draw.choice(REGISTERS)):
+            for call in realm_acts(range(9), draw.choice(PROGRAMS), draw.choice(REGISTERS)):
                 self.does(call)
             host = Drawn(draw, moves=0.1, ends=0.02, odd=0.05)
             for _ in range(1500):

@@ -10,7 +10,7 @@ from hermitcell.walls import WALLS, WeakWorld
 from hermitcell.words import Atom, Knowledge
 from hermitcell.world import World
 from tests.helpers import NO_WORDS, TrickyText, challenge, contents, wipes
-from tests.hosts import LOW_PROGRAMS, REGISTERS, Drawn, finish, realm_acts
+from tests.hosts import PROGRAMS, REGISTERS, Drawn, finish, realm_acts
 
 D, ROOT, LOW, DATA, CPU, FREE, MORE, LAST = range(1, 9)
 SOURCE = 20
@@ -105,7 +105,7 @@ class FirstTest(unittest.TestCase):
         for seed in range(5):
             draw = random.Random(seed)
             one, other = World("here"), WeakWorld("here", None)
-            for call in realm_acts(range(9), draw.choice(LOW_PROGRAMS), draw.choice(REGISTERS)):
+            for call in realm_acts(range(9), draw.choice(PROGRAMS), draw.choice(REGISTERS)):
                 self.assertEqual(finish(one.act, call), finish(other.act, call))
             host = Drawn(draw, moves=0.2, ends=0.1)
             for _ in range(800):
